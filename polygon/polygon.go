@@ -1,0 +1,91 @@
+// Package polygon: what a polygon is made of, whether it is valid, and its area.
+package polygon
+
+import (
+	"iter"
+	"slices"
+
+	"facet/api"
+	"facet/plane"
+)
+
+// Polygon is a list of rings: the outer one, then the holes.
+type Polygon [][]api.Point
+
+// Edge is an edge by its two vertices: where it begins, where it ends.
+type Edge [2]int
+
+// Vertices tells the points of all rings, ring by ring, in new memory.
+func (p Polygon) Vertices() []api.Point {
+	return slices.Concat(p...)
+}
+
+// Edges tells the edges of all rings, ring by ring.
+func (p Polygon) Edges() []Edge {
+	var edges []Edge
+	first := 0
+	for _, ring := range p {
+		for i := range ring {
+			next := (i + 1) % len(ring)
+			edges = append(edges, Edge{first + i, first + next})
+		}
+		first += len(ring)
+	}
+	return edges
+}
+
+// Area tells twice the area of the inside of a valid polygon.
+func (p Polygon) Area() int {
+	area := ringArea(p[0])
+	for _, hole := range p[1:] {
+		area -= ringArea(hole)
+	}
+	return area
+}
+
+// ringArea tells twice the area within a ring, whichever way round it goes.
+func ringArea(ring []api.Point) int {
+	sum := 0
+	for a, b := range sides(ring) {
+		sum += a.X*b.Y - a.Y*b.X
+	}
+	return max(sum, -sum)
+}
+
+// within tells whether a point is within a ring.
+func within(p api.Point, ring []api.Point) bool {
+	odd := false
+	for a, b := range sides(ring) {
+		if plane.Meet(p, p, a, b) {
+			return false
+		}
+		if crossed(p, a, b) {
+			odd = !odd
+		}
+	}
+	return odd
+}
+
+// crossed tells whether the ray from p to the right crosses the edge from a to
+// b, on which p is not. The ray is taken to run a hair above p's height, below
+// all vertices that are higher: so it goes through none.
+func crossed(p, a, b api.Point) bool {
+	switch {
+	case a.Y <= p.Y && p.Y < b.Y:
+		return plane.Turn(a, b, p) > 0
+	case b.Y <= p.Y && p.Y < a.Y:
+		return plane.Turn(b, a, p) > 0
+	}
+	return false
+}
+
+// sides goes through a ring's edges by their points.
+func sides(ring []api.Point) iter.Seq2[api.Point, api.Point] {
+	return func(yield func(a, b api.Point) bool) {
+		for i, a := range ring {
+			if !yield(a, ring[(i+1)%len(ring)]) {
+				return
+			}
+		}
+	}
+}
