@@ -2,13 +2,18 @@
 package facet
 
 import (
+	"slices"
+
 	"facet/api"
+	"facet/mesh"
 	"facet/plane"
 	"facet/polygon"
 )
 
 // Mesh is a polygon's triangles.
-type Mesh struct{}
+type Mesh struct {
+	triangles []api.Triangle
+}
 
 // Turn tells whether c is to the left of a to b (P2).
 func Turn(a, b, c api.Point) int { return plane.Turn(a, b, c) }
@@ -31,10 +36,15 @@ func Area(rings [][]api.Point) (int, api.Errno) {
 }
 
 // New cuts a polygon into triangles (P5).
-func New(rings [][]api.Point) (*Mesh, api.Errno) { return nil, api.OK }
+func New(rings [][]api.Point) (*Mesh, api.Errno) {
+	if fault := Check(rings); fault != api.OK {
+		return nil, fault
+	}
+	return &Mesh{mesh.Triangles(rings)}, api.OK
+}
 
 // Triangles tells them all (P5).
-func (m *Mesh) Triangles() []api.Triangle { return nil }
+func (m *Mesh) Triangles() []api.Triangle { return slices.Clone(m.triangles) }
 
 // Beside tells which triangles are beside one (P7).
 func (m *Mesh) Beside(triangle int) (api.Triangle, api.Errno) { return api.Triangle{}, api.OK }

@@ -4,6 +4,7 @@ import (
 	"math"
 	"math/rand"
 	"reflect"
+	"slices"
 	"testing"
 
 	"facet/api"
@@ -48,6 +49,9 @@ func TestListsOfAllKindsEnd(t *testing.T) {
 		if fault != api.OK && area != 0 {
 			t.Fatalf("%v: area %d beside the error %d", list, area, fault)
 		}
+		if m, same := facet.New(list); same != fault || (m != nil) != (fault == api.OK) {
+			t.Fatalf("%v: Check %d, New %v, %d", list, fault, m, same)
+		}
 	}
 }
 
@@ -56,6 +60,9 @@ func TestLongRingsEnd(t *testing.T) {
 	list := rings{long, long, long, long, long, long, long, long}
 	if fault := facet.Check(list); fault != api.ErrRange {
 		t.Errorf("long rings: Check %d", fault)
+	}
+	if m, fault := facet.New(list); m != nil || fault != api.ErrRange {
+		t.Errorf("long rings: New %v, %d", m, fault)
 	}
 }
 
@@ -101,6 +108,9 @@ func TestSeveralErrors(t *testing.T) {
 		if area, fault := facet.Area(c.list); area != 0 || fault != c.fault {
 			t.Errorf("%s: Area %d, %d, want 0, %d", c.why, area, fault, c.fault)
 		}
+		if m, fault := facet.New(c.list); m != nil || fault != c.fault {
+			t.Errorf("%s: New %v, %d, want nil, %d", c.why, m, fault, c.fault)
+		}
 	}
 }
 
@@ -134,6 +144,9 @@ func TestListsStayAsTheyAre(t *testing.T) {
 		before := whole(given)
 		facet.Check(given)
 		facet.Area(given)
+		if m, _ := facet.New(given); m != nil {
+			m.Triangles()
+		}
 		if after := whole(given); !reflect.DeepEqual(before, after) {
 			t.Errorf("%v became %v", before, after)
 		}
@@ -146,6 +159,11 @@ func TestSpareRoomSaysNothing(t *testing.T) {
 		area, fault := facet.Area(list)
 		if a, f := facet.Area(roomy(list)); a != area || f != fault {
 			t.Errorf("%v: with spare room Area %d, %d, else %d, %d", list, a, f, area, fault)
+		}
+	}
+	for _, d := range drawings() {
+		if a, b := trianglesOf(t, d.list), trianglesOf(t, roomy(d.list)); !slices.Equal(a, b) {
+			t.Errorf("%s: with spare room %v, else %v", d.why, b, a)
 		}
 	}
 }
@@ -177,6 +195,79 @@ func TestNilIsAnEmptyList(t *testing.T) {
 	} {
 		if area, fault := facet.Area(c.list); area != 0 || fault != c.fault || facet.Check(c.list) != c.fault {
 			t.Errorf("%#v: Area %d, %d, want 0, %d", c.list, area, fault, c.fault)
+		}
+		if m, fault := facet.New(c.list); m != nil || fault != c.fault {
+			t.Errorf("%#v: New %v, %d, want nil, %d", c.list, m, fault, c.fault)
+		}
+	}
+}
+
+// TestMeshKeepsNoList: what the caller writes into the rings, or into triangles
+// that came out, and into the room behind them, is not seen in the mesh.
+func TestMeshKeepsNoList(t *testing.T) {
+	for _, list := range []rings{{square(0, 0, 4)}, {ring(0, 0, 3, -1, 9, 0, 3, 1)}, {bow(64)}, holed(7)} {
+		given := roomy(list)
+		m, _ := facet.New(given)
+		want := trianglesOf(t, list)
+		for _, one := range given[:cap(given)] {
+			for i := range one[:cap(one)] {
+				one[:cap(one)][i] = at(1, 1)
+			}
+		}
+		clear(given[:cap(given)])
+		for range 3 {
+			got := m.Triangles()
+			if !slices.Equal(got, want) {
+				t.Fatalf("%v: the triangles %v became %v", list, want, got)
+			}
+			got = got[:cap(got)]
+			for i := range got {
+				got[i] = api.Triangle{-7, -8, -9}
+			}
+		}
+	}
+}
+
+// TestListsThatComeOutAreApart: two of them share no memory, not even the room
+// behind them.
+func TestListsThatComeOutAreApart(t *testing.T) {
+	m, _ := facet.New(holed(3))
+	one, other := m.Triangles(), m.Triangles()
+	want := slices.Clone(other)
+	for i := range one[:cap(one)] {
+		one[:cap(one)][i] = api.Triangle{-1, -1, -1}
+	}
+	if !slices.Equal(other, want) {
+		t.Errorf("the triangles %v became %v", want, other)
+	}
+	_ = append(one, api.Triangle{5, 5, 5})
+	if long := append(other, api.Triangle{6, 6, 6}); !slices.Equal(long[:len(want)], want) || !slices.Equal(m.Triangles(), want) {
+		t.Errorf("the triangles %v became %v and %v", want, long, m.Triangles())
+	}
+}
+
+// TestMeshesAreApart: one mesh is not changed by the making of another.
+func TestMeshesAreApart(t *testing.T) {
+	var meshes []*facet.Mesh
+	for _, d := range drawings() {
+		m, _ := facet.New(d.list)
+		meshes = append(meshes, m)
+	}
+	for i, d := range drawings() {
+		if got, want := meshes[i].Triangles(), trianglesOf(t, d.list); !slices.Equal(got, want) {
+			t.Errorf("%s: %v, but alone %v", d.why, got, want)
+		}
+	}
+}
+
+// TestSameAnswerAgain: where several meshes are right, the same one always comes.
+func TestSameAnswerAgain(t *testing.T) {
+	for _, d := range drawings() {
+		want := trianglesOf(t, d.list)
+		for range 20 {
+			if got := trianglesOf(t, d.list); !slices.Equal(got, want) {
+				t.Fatalf("%s: %v, and then %v", d.why, want, got)
+			}
 		}
 	}
 }

@@ -15,6 +15,11 @@ type Polygon [][]api.Point
 // Edge is an edge by its two vertices: where it begins, where it ends.
 type Edge [2]int
 
+// Turned tells the same edge the other way round.
+func (e Edge) Turned() Edge {
+	return Edge{e[1], e[0]}
+}
+
 // Vertices tells the points of all rings, ring by ring, in new memory.
 func (p Polygon) Vertices() []api.Point {
 	return slices.Concat(p...)
@@ -34,6 +39,27 @@ func (p Polygon) Edges() []Edge {
 	return edges
 }
 
+// Border tells the edges of all rings of a valid polygon, ring by ring, each so
+// turned that the inside is to its left.
+func (p Polygon) Border() []Edge {
+	edges := p.Edges()
+	rest := edges
+	for i, ring := range p {
+		outer := i == 0
+		if outer != (leftArea(ring) > 0) {
+			turnAll(rest[:len(ring)])
+		}
+		rest = rest[len(ring):]
+	}
+	return edges
+}
+
+func turnAll(edges []Edge) {
+	for i, e := range edges {
+		edges[i] = e.Turned()
+	}
+}
+
 // Area tells twice the area of the inside of a valid polygon.
 func (p Polygon) Area() int {
 	area := ringArea(p[0])
@@ -45,11 +71,18 @@ func (p Polygon) Area() int {
 
 // ringArea tells twice the area within a ring, whichever way round it goes.
 func ringArea(ring []api.Point) int {
+	area := leftArea(ring)
+	return max(area, -area)
+}
+
+// leftArea tells twice the area to the left of a ring's edges and within it:
+// less than 0 if what is within is to their right.
+func leftArea(ring []api.Point) int {
 	sum := 0
 	for a, b := range sides(ring) {
 		sum += a.X*b.Y - a.Y*b.X
 	}
-	return max(sum, -sum)
+	return sum
 }
 
 // within tells whether a point is within a ring.

@@ -24,6 +24,26 @@ func TestVerticesAndEdgesAreNumberedRingByRing(t *testing.T) {
 	}
 }
 
+func TestBorderHasTheInsideToTheLeft(t *testing.T) {
+	left := Polygon{house()[0], {triangle[0], triangle[2], triangle[1]}}
+	right := Polygon{slices.Clone(left[0]), slices.Clone(left[1])}
+	slices.Reverse(right[0])
+	slices.Reverse(right[1])
+	for _, c := range []struct {
+		p    Polygon
+		want []Edge
+	}{
+		{left, []Edge{{0, 1}, {1, 2}, {2, 3}, {3, 0}, {4, 5}, {5, 6}, {6, 4}}},
+		{right, []Edge{{1, 0}, {2, 1}, {3, 2}, {0, 3}, {5, 4}, {6, 5}, {4, 6}}},
+		{Polygon{left[0], right[1]}, []Edge{{0, 1}, {1, 2}, {2, 3}, {3, 0}, {5, 4}, {6, 5}, {4, 6}}},
+		{Polygon{right[0], left[1]}, []Edge{{1, 0}, {2, 1}, {3, 2}, {0, 3}, {4, 5}, {5, 6}, {6, 4}}},
+	} {
+		if got := c.p.Border(); !slices.Equal(got, c.want) {
+			t.Errorf("%v: %v, want %v", c.p, got, c.want)
+		}
+	}
+}
+
 func TestVerticesAreNewMemory(t *testing.T) {
 	p := house()[1:]
 	v := p.Vertices()
