@@ -2,8 +2,6 @@
 package facet
 
 import (
-	"slices"
-
 	"facet/api"
 	"facet/mesh"
 	"facet/plane"
@@ -12,7 +10,7 @@ import (
 
 // Mesh is a polygon's triangles.
 type Mesh struct {
-	triangles []api.Triangle
+	mesh mesh.Mesh
 }
 
 // Turn tells whether c is to the left of a to b (P2).
@@ -40,14 +38,14 @@ func New(rings [][]api.Point) (*Mesh, api.Errno) {
 	if fault := Check(rings); fault != api.OK {
 		return nil, fault
 	}
-	return &Mesh{mesh.Triangles(rings)}, api.OK
+	return &Mesh{mesh.New(rings)}, api.OK
 }
 
 // Triangles tells them all (P5).
-func (m *Mesh) Triangles() []api.Triangle { return slices.Clone(m.triangles) }
+func (m *Mesh) Triangles() []api.Triangle { return m.mesh.Triangles() }
 
 // Beside tells which triangles are beside one (P7).
-func (m *Mesh) Beside(triangle int) (api.Triangle, api.Errno) { return api.Triangle{}, api.OK }
+func (m *Mesh) Beside(triangle int) (api.Triangle, api.Errno) { return m.mesh.Beside(triangle) }
 
 // Locate tells in which triangle a point is (P8).
-func (m *Mesh) Locate(p api.Point) int { return 0 }
+func (m *Mesh) Locate(p api.Point) int { return m.mesh.Locate(p) }

@@ -145,7 +145,7 @@ func TestListsStayAsTheyAre(t *testing.T) {
 		facet.Check(given)
 		facet.Area(given)
 		if m, _ := facet.New(given); m != nil {
-			m.Triangles()
+			answersOf(m, list)
 		}
 		if after := whole(given); !reflect.DeepEqual(before, after) {
 			t.Errorf("%v became %v", before, after)
@@ -162,8 +162,9 @@ func TestSpareRoomSaysNothing(t *testing.T) {
 		}
 	}
 	for _, d := range drawings() {
-		if a, b := trianglesOf(t, d.list), trianglesOf(t, roomy(d.list)); !slices.Equal(a, b) {
-			t.Errorf("%s: with spare room %v, else %v", d.why, b, a)
+		a, b := meshOf(t, d.list), meshOf(t, roomy(d.list))
+		if !reflect.DeepEqual(answersOf(a, d.list), answersOf(b, d.list)) {
+			t.Errorf("%s: with spare room other answers come", d.why)
 		}
 	}
 }
@@ -202,13 +203,34 @@ func TestNilIsAnEmptyList(t *testing.T) {
 	}
 }
 
+// answers are all that a mesh tells, of numbers and points of all kinds.
+type answers struct {
+	triangles []api.Triangle
+	beside    []api.Triangle
+	faults    []api.Errno
+	places    []int
+}
+
+func answersOf(m *facet.Mesh, list rings) answers {
+	all := answers{triangles: m.Triangles()}
+	for n := -2; n < len(all.triangles)+2; n++ {
+		beside, fault := m.Beside(n)
+		all.beside = append(all.beside, beside)
+		all.faults = append(all.faults, fault)
+	}
+	for _, p := range nearPoints(list) {
+		all.places = append(all.places, m.Locate(p))
+	}
+	return all
+}
+
 // TestMeshKeepsNoList: what the caller writes into the rings, or into triangles
 // that came out, and into the room behind them, is not seen in the mesh.
 func TestMeshKeepsNoList(t *testing.T) {
 	for _, list := range []rings{{square(0, 0, 4)}, {ring(0, 0, 3, -1, 9, 0, 3, 1)}, {bow(64)}, holed(7)} {
 		given := roomy(list)
-		m, _ := facet.New(given)
-		want := trianglesOf(t, list)
+		m := meshOf(t, given)
+		want := answersOf(meshOf(t, list), list)
 		for _, one := range given[:cap(given)] {
 			for i := range one[:cap(one)] {
 				one[:cap(one)][i] = at(1, 1)
@@ -216,13 +238,13 @@ func TestMeshKeepsNoList(t *testing.T) {
 		}
 		clear(given[:cap(given)])
 		for range 3 {
-			got := m.Triangles()
-			if !slices.Equal(got, want) {
-				t.Fatalf("%v: the triangles %v became %v", list, want, got)
+			if got := answersOf(m, list); !reflect.DeepEqual(got, want) {
+				t.Fatalf("%v: the answers %v became %v", list, want, got)
 			}
-			got = got[:cap(got)]
-			for i := range got {
-				got[i] = api.Triangle{-7, -8, -9}
+			out := m.Triangles()
+			out = out[:cap(out)]
+			for i := range out {
+				out[i] = api.Triangle{-7, -8, -9}
 			}
 		}
 	}
@@ -231,7 +253,7 @@ func TestMeshKeepsNoList(t *testing.T) {
 // TestListsThatComeOutAreApart: two of them share no memory, not even the room
 // behind them.
 func TestListsThatComeOutAreApart(t *testing.T) {
-	m, _ := facet.New(holed(3))
+	m := meshOf(t, holed(3))
 	one, other := m.Triangles(), m.Triangles()
 	want := slices.Clone(other)
 	for i := range one[:cap(one)] {
@@ -250,23 +272,47 @@ func TestListsThatComeOutAreApart(t *testing.T) {
 func TestMeshesAreApart(t *testing.T) {
 	var meshes []*facet.Mesh
 	for _, d := range drawings() {
-		m, _ := facet.New(d.list)
-		meshes = append(meshes, m)
+		meshes = append(meshes, meshOf(t, d.list))
 	}
 	for i, d := range drawings() {
-		if got, want := meshes[i].Triangles(), trianglesOf(t, d.list); !slices.Equal(got, want) {
+		got, want := answersOf(meshes[i], d.list), answersOf(meshOf(t, d.list), d.list)
+		if !reflect.DeepEqual(got, want) {
 			t.Errorf("%s: %v, but alone %v", d.why, got, want)
 		}
 	}
 }
 
-// TestSameAnswerAgain: where several meshes are right, the same one always comes.
+// TestSameAnswerAgain: where several meshes are right, the same one always
+// comes; and a mesh always answers the same.
 func TestSameAnswerAgain(t *testing.T) {
 	for _, d := range drawings() {
-		want := trianglesOf(t, d.list)
-		for range 20 {
-			if got := trianglesOf(t, d.list); !slices.Equal(got, want) {
+		first := meshOf(t, d.list)
+		want := answersOf(first, d.list)
+		if again := answersOf(first, d.list); !reflect.DeepEqual(again, want) {
+			t.Fatalf("%s: %v, and then %v", d.why, want, again)
+		}
+		for range 10 {
+			if got := answersOf(meshOf(t, d.list), d.list); !reflect.DeepEqual(got, want) {
 				t.Fatalf("%s: %v, and then %v", d.why, want, got)
+			}
+		}
+	}
+}
+
+// TestMeshesAreAskedAllNumbers: no number and no point brings a mesh down, and
+// beside an error there is nothing.
+func TestMeshesAreAskedAllNumbers(t *testing.T) {
+	r := rand.New(rand.NewSource(13))
+	for _, d := range drawings() {
+		m := meshOf(t, d.list)
+		count := len(m.Triangles())
+		for range 500 {
+			if n := m.Locate(wildPoint(r)); n < -1 || n >= count {
+				t.Fatalf("%s: Locate tells %d of %d", d.why, n, count)
+			}
+			n := wild[r.Intn(len(wild))]
+			if beside, fault := m.Beside(n); (fault == api.OK) != (0 <= n && n < count) || fault != api.OK && beside != (api.Triangle{}) {
+				t.Fatalf("%s: Beside(%d) = %v, %d, of %d", d.why, n, beside, fault, count)
 			}
 		}
 	}

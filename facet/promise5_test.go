@@ -9,14 +9,20 @@ import (
 	"facet/facet"
 )
 
-// trianglesOf tells the triangles of a valid polygon's mesh.
-func trianglesOf(t *testing.T, list rings) []api.Triangle {
+// meshOf tells a valid polygon's mesh.
+func meshOf(t *testing.T, list rings) *facet.Mesh {
 	t.Helper()
 	m, fault := facet.New(list)
 	if m == nil || fault != api.OK {
 		t.Fatalf("New(%v) = %v, %d", list, m, fault)
 	}
-	return m.Triangles()
+	return m
+}
+
+// trianglesOf tells the triangles of a valid polygon's mesh.
+func trianglesOf(t *testing.T, list rings) []api.Triangle {
+	t.Helper()
+	return meshOf(t, list).Triangles()
 }
 
 func expectMesh(t *testing.T, why string, list rings) {

@@ -14,8 +14,10 @@ type ground struct {
 	points []api.Point
 }
 
-func (g ground) turn(a, b, c int) int {
-	return plane.Turn(g.points[a], g.points[b], g.points[c])
+// side tells on which side of an edge a point is: 1 to the left, 0 on its line,
+// -1 to the right.
+func (g ground) side(e polygon.Edge, p api.Point) int {
+	return plane.Turn(g.points[e[0]], g.points[e[1]], p)
 }
 
 func (g ground) circle(a, b, c, d int) int {
@@ -40,7 +42,7 @@ type edge struct {
 
 // left tells whether a vertex is to the left of the edge.
 func (e edge) left(v int) bool {
-	return e.turn(e.ends[0], e.ends[1], v) > 0
+	return e.side(e.ends, e.points[v]) > 0
 }
 
 // nearer tells whether v is within the circle through the edge's ends and
@@ -55,18 +57,20 @@ type triangle struct {
 	corners api.Triangle
 }
 
-// holds tells whether a vertex that is none of its corners is in the triangle,
-// or on an edge of it.
-func (t triangle) holds(v int) bool {
-	if slices.Contains(t.corners[:], v) {
-		return false
-	}
+// covers tells whether a point is in the triangle, or on an edge or a corner
+// of it.
+func (t triangle) covers(p api.Point) bool {
 	for _, e := range sides(t.corners) {
-		if t.turn(e[0], e[1], v) < 0 {
+		if t.side(e, p) < 0 {
 			return false
 		}
 	}
 	return true
+}
+
+// holds tells whether the triangle covers a vertex that is none of its corners.
+func (t triangle) holds(v int) bool {
+	return !slices.Contains(t.corners[:], v) && t.covers(t.points[v])
 }
 
 // crossed tells whether an edge crosses one of the triangle's.

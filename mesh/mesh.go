@@ -1,13 +1,5 @@
-// Package mesh: a valid polygon, cut into the triangles of a mesh.
-//
-// Triangles are laid one by one, each to the left of an edge that has none
-// there yet: of the polygon's edges first, then of those that the triangles
-// bring along. What is not covered yet is always bounded by known edges, so
-// each of them has a vertex to its left with which it makes a triangle that
-// nothing reaches into. Of these vertices one is taken whose circle with the
-// edge has none of the others within it: that makes the mesh DELAUNAY. Where
-// several are on that circle any of them will do, as later triangles keep
-// clear of the edges of earlier ones.
+// Package mesh: a valid polygon, cut into the triangles of a mesh, and what can
+// be asked of them.
 package mesh
 
 import (
@@ -17,78 +9,63 @@ import (
 	"facet/polygon"
 )
 
-// uncut stands for the third vertex where no triangle is laid yet.
-const uncut = -1
+// none stands for the number of a triangle where there is none.
+const none = -1
 
-// cut is a polygon, and what has been laid of its mesh so far.
-type cut struct {
+// Mesh is a polygon's triangles, on their ground.
+type Mesh struct {
 	ground
-	edges []polygon.Edge       // each one that is known, once
-	third map[polygon.Edge]int // which vertex makes a triangle with an edge, to its left
+	triangles []api.Triangle
+	left      map[polygon.Edge]int // the number of the triangle to the left of an edge
 }
 
-// Triangles tells the triangles of a mesh of a valid polygon, in their order.
-func Triangles(p polygon.Polygon) []api.Triangle {
-	c := cut{ground: ground{p.Vertices()}, third: map[polygon.Edge]int{}}
-	for _, e := range p.Border() {
-		c.open(e)
-	}
-	for i := 0; i < len(c.edges); i++ { // laying a triangle makes the list longer
-		if e := c.edges[i]; c.third[e] == uncut {
-			c.lay(api.Triangle{e[0], e[1], c.best(e)})
+// New cuts a valid polygon into triangles.
+func New(p polygon.Polygon) Mesh {
+	g := ground{p.Vertices()}
+	m := Mesh{g, cutAll(g, p.Border()), map[polygon.Edge]int{}}
+	for n, t := range m.triangles {
+		for _, e := range sides(t) {
+			m.left[e] = n
 		}
 	}
-	return c.triangles()
+	return m
 }
 
-// open adds an edge that has the polygon's inside to its left.
-func (c *cut) open(e polygon.Edge) {
-	c.edges = append(c.edges, e)
-	c.third[e] = uncut
+// Triangles tells them all, in new memory.
+func (m Mesh) Triangles() []api.Triangle {
+	return slices.Clone(m.triangles)
 }
 
-// lay adds a triangle; beyond those of its edges that are new, there is more
-// of the inside.
-func (c *cut) lay(t api.Triangle) {
-	for i, e := range sides(t) {
-		if _, known := c.third[e]; !known {
-			c.open(e.Turned())
-		}
-		c.third[e] = t[(i+2)%3]
+// Beside tells which triangles share the edges of one.
+func (m Mesh) Beside(number int) (api.Triangle, api.Errno) {
+	if number < 0 || number >= len(m.triangles) {
+		return api.Triangle{}, api.ErrTriangle
 	}
-}
-
-// best tells the vertex that makes the triangle to the left of an edge.
-func (c *cut) best(e polygon.Edge) int {
-	base, best := edge{c.ground, e}, uncut
-	for v := range c.points {
-		if base.left(v) && (best == uncut || base.nearer(v, best)) && c.clear(api.Triangle{e[0], e[1], v}) {
-			best = v
-		}
+	var beside api.Triangle
+	for i, e := range sides(m.triangles[number]) {
+		beside[i] = m.right(e)
 	}
-	return best
+	return beside, api.OK
 }
 
-// clear tells whether nothing that is known reaches into a triangle.
-func (c *cut) clear(corners api.Triangle) bool {
-	t := triangle{c.ground, corners}
-	for v := range c.points {
-		if t.holds(v) {
-			return false
-		}
+// right tells the number of the triangle to the right of an edge.
+func (m Mesh) right(e polygon.Edge) int {
+	if n, there := m.left[e.Turned()]; there {
+		return n
 	}
-	return !slices.ContainsFunc(c.edges, t.crossed)
+	return none
 }
 
-// triangles tells all that are laid. Each is found by three edges, and told by
-// the one from its least vertex.
-func (c *cut) triangles() []api.Triangle {
-	var list []api.Triangle
-	for e, v := range c.third {
-		if e[0] < e[1] && e[0] < v {
-			list = append(list, api.Triangle{e[0], e[1], v})
+// Locate tells the first triangle that a point is in. Of a point out of the
+// bounds no turn is asked: the numbers could run over.
+func (m Mesh) Locate(p api.Point) int {
+	if !polygon.InBounds(p) {
+		return none
+	}
+	for n, t := range m.triangles {
+		if (triangle{m.ground, t}).covers(p) {
+			return n
 		}
 	}
-	slices.SortFunc(list, func(t, u api.Triangle) int { return slices.Compare(t[:], u[:]) })
-	return list
+	return none
 }

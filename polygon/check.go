@@ -59,15 +59,17 @@ func inRange(p Polygon) bool {
 		return false
 	}
 	for _, v := range p.Vertices() {
-		if !inBounds(v.X) || !inBounds(v.Y) {
+		if !InBounds(v) {
 			return false
 		}
 	}
 	return true
 }
 
-func inBounds(coordinate int) bool {
-	return -api.MaxCoord <= coordinate && coordinate <= api.MaxCoord
+// InBounds tells whether a point's coordinates are in their bounds.
+func InBounds(p api.Point) bool {
+	return -api.MaxCoord <= p.X && p.X <= api.MaxCoord &&
+		-api.MaxCoord <= p.Y && p.Y <= api.MaxCoord
 }
 
 func noneTwice(p Polygon) bool {

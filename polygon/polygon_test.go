@@ -92,6 +92,19 @@ func TestEachTestAlone(t *testing.T) {
 	}
 }
 
+func TestInBounds(t *testing.T) {
+	for _, n := range []int{-api.MaxCoord, -1, 0, 1, api.MaxCoord} {
+		if !InBounds(api.Point{X: n}) || !InBounds(api.Point{Y: n}) {
+			t.Errorf("%d is not in its bounds", n)
+		}
+	}
+	for _, n := range []int{-1 << 63, -api.MaxCoord - 1, api.MaxCoord + 1, 1<<63 - 1} {
+		if InBounds(api.Point{X: n}) || InBounds(api.Point{Y: n}) || InBounds(api.Point{X: n, Y: n}) {
+			t.Errorf("%d is in its bounds", n)
+		}
+	}
+}
+
 func TestWithin(t *testing.T) {
 	ring := []api.Point{{X: 0, Y: 0}, {X: 4, Y: 4}, {X: 8, Y: 0}, {X: 8, Y: 8}, {X: 4, Y: 6}, {X: 0, Y: 8}}
 	for _, c := range []struct {
